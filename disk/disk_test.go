@@ -403,15 +403,20 @@ func TestClone(t *testing.T) {
 }
 
 func TestClonesArePendingApart(t *testing.T) {
-	d := disk.New(100)
-	d.Append("a", "a")
-	c := d.Clone()
-	c.Append("c", "c")
-	d.Append("d", "d")
-	c.Crash(2, 0)
-	d.Crash(2, 0)
-	names(t, c, "a", "c")
-	names(t, d, "a", "d")
+	for n := range 9 {
+		d := disk.New(100)
+		for range n {
+			d.Append("a", "a")
+		}
+		c := d.Clone()
+		c.Append("c", "c")
+		d.Append("d", "d")
+		c.Crash(n+1, 0)
+		d.Crash(n+1, 0)
+		content(t, c, "c", "c")
+		content(t, d, "d", "d")
+		want(t, "files", len(c.Names())+len(d.Names()), 2+2*min(n, 1))
+	}
 }
 
 // P1.6, and all of the above against a plain model

@@ -340,6 +340,78 @@ func TestValid(t *testing.T) {
 	}
 }
 
+func TestAnEmptyFileHasToExist(t *testing.T) {
+	k := key(0, 0, 0, 1)
+	whole := disk.New(1 << 20)
+	want(t, "Write", fileset.Write(whole, k, nil), api.OK)
+	for _, p := range []string{"index", "summary", "data"} {
+		text, ok := whole.Read(file(t, k, p))
+		want(t, "an empty file", ok && text == "", true)
+		d := whole.Clone()
+		d.Remove(file(t, k, p))
+		want(t, "without "+p, fileset.Valid(d, k), false)
+		keys(t, d)
+	}
+}
+
+func TestAKeyThatIsNotPermittedIsNotValid(t *testing.T) {
+	for _, k := range forbidden() {
+		d := disk.New(1 << 20)
+		sums := ""
+		for i, p := range partNames() {
+			text := ""
+			switch {
+			case i < 5:
+				sums += adler("")
+			case i == 5:
+				text = sums
+			default:
+				text = adler(sums)
+			}
+			if name := fmt.Sprintf("v%d-%d-%d-%d.%s", k.Space, k.Shard, k.Block, k.Volume, p); len(name) <= api.MaxFile {
+				d.Append(name, text)
+			}
+		}
+		files := len(d.Names())
+		want(t, fmt.Sprint(k), fileset.Valid(d, k), false)
+		keys(t, d)
+		want(t, "Clean", fileset.Clean(d), api.OK)
+		want(t, "files of others", len(d.Names()), files)
+		_, err := fileset.Open(d, k)
+		want(t, "Open", err, api.ErrArg)
+	}
+}
+
+func TestContentsThatMakeNoSense(t *testing.T) {
+	k := key(0, 0, 0, 1)
+	good, _ := tsz.Encode([]api.Point{pt(1, 1, 1)})
+	for what, e := range map[string]index.Entry{
+		"past the data":   {ID: "a", Off: 1, Size: len(good)},
+		"far past it":     {ID: "a", Off: 1<<31 - 1, Size: 1<<31 - 1},
+		"not the points":  {ID: "a", Off: 1, Size: 5},
+		"nothing":         {ID: "a"},
+		"half the points": {ID: "a", Size: len(good) - 1},
+	} {
+		x, s, _ := index.Encode([]index.Entry{e})
+		d := disk.New(1 << 20)
+		sums := ""
+		for i, text := range []string{"", string(x), string(s), strings.Repeat("\xff", 8), string(good)} {
+			d.Append(file(t, k, partNames()[i]), text)
+			sums += adler(text)
+		}
+		d.Append(file(t, k, "digest"), sums)
+		d.Append(file(t, k, "check"), adler(sums))
+		r, err := fileset.Open(d, k)
+		want(t, what, err, api.OK)
+		l, ok := r.Read("a")
+		want(t, what, ok, false)
+		want(t, what, len(l), 0)
+		m, ok := r.Meta("a")
+		want(t, what, ok, false)
+		want(t, what, m, api.Meta{})
+	}
+}
+
 func TestValidLooksAtChecksumsOnly(t *testing.T) {
 	k := key(0, 0, 0, 1)
 	d := disk.New(1 << 20)

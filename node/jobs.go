@@ -42,6 +42,12 @@ func (j *bootJob) wanted() []int { return j.boot.Wants() }
 func (j *bootJob) restart()      { j.boot = j.start() }
 func (j *bootJob) lasting() bool { return true }
 
+// finish lets go of the points, which the shard has by now.
+func (j *bootJob) finish() {
+	j.common.finish()
+	j.boot = nil
+}
+
 func (j *bootJob) give(peer int, l []api.Series) ([]api.Series, bool) {
 	j.boot.Got(peer, l)
 	if !j.boot.Done() {
@@ -103,7 +109,11 @@ func (n *Node) newBoot(space, number int, done bool) job {
 		b, _ := bootstrap.New(n.known, number, n.me, api.Range{From: 0, To: wholeTime})
 		return b
 	}
-	return &bootJob{common: common{space: space, number: number, done: done}, boot: start(), start: start}
+	j := &bootJob{common: common{space: space, number: number, done: done}, start: start}
+	if !done {
+		j.restart()
+	}
+	return j
 }
 
 // current returns the first job that is not ready, or nil.

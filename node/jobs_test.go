@@ -225,7 +225,7 @@ func TestTickEmptiesTheLogOnlyIfNeeded(t *testing.T) {
 	list(t, "files", d.Names())
 
 	// and a file that was there at Open
-	d.Append("log-5", "no record")
+	d.Append("log-1", "no record")
 	d.Sync()
 	n = open(t, d, config(), 0, 1, 0)
 	asksNothing(t, n, 0)
@@ -397,6 +397,34 @@ func TestOnlyPointsThatWinAreKept(t *testing.T) {
 		want(t, fmt.Sprint("raw calls for ", c.p), d.Ops()-ops, c.ops)
 		list(t, "Ready", n.Ready(), 0)
 	}
+}
+
+func TestTheFirstAndTheLastTimeAreKept(t *testing.T) {
+	c := config()
+	c.Spaces[0].Future = api.MaxTime
+	for range 2 {
+		n, d := newcomer(t, c, 0)
+		serve(t, n, 0, 0, of("a", pt(0, 1, 1)))
+		list(t, "Points", n.Points(0, "a"), pt(0, 1, 1))
+		want(t, "raw calls", d.Ops(), 2)
+	}
+	n, d := newcomer(t, c, 0)
+	for _, x := range []int{0, api.MaxTime} {
+		m := write("a", pt(x, 1, 1))
+		m.Epoch = 2
+		fails(t, n, m, 0, api.OK)
+	}
+	last := api.MaxTime - api.MaxTime%60
+	request(t, n, 0, metasRequest(0, 2, 0, 0, 0, ""))
+	tell(t, n, 0, paged(0, 2, false, mt("a", 0), mt("a", last), mt("b", last)), 0)
+	for seq, l := range [][]api.Point{{pt(0, 1, 1)}, {pt(api.MaxTime, 1, 1)}, {pt(api.MaxTime, 2, 2)}} {
+		asks(t, n, 0)
+		tell(t, n, 0, stream(1+seq, 2, l...), 0)
+	}
+	list(t, "Ready", n.Ready(), 0)
+	want(t, "raw calls: a is there already", d.Ops(), 4+2)
+	list(t, "Points", n.Points(0, "a"), pt(0, 1, 1), pt(api.MaxTime, 1, 1))
+	list(t, "Points", n.Points(0, "b"), pt(api.MaxTime, 2, 2))
 }
 
 func TestKeptFromTheOthers(t *testing.T) {
@@ -584,7 +612,8 @@ func TestLearnDropsTheFetch(t *testing.T) {
 func TestShardsBeyondTheConfiguration(t *testing.T) {
 	n := open(t, disk.New(1<<20), config(), 3, 0, 0) // one shard; the placement has four
 	n.Learn(many(t))
-	bootAll(t, n, 100)
+	request(t, n, 0, metasRequest(0, 2, 0, 0, 0, ""))
+	tell(t, n, 0, paged(0, 2, false), 0)
 	list(t, "Ready", n.Ready(), 0)
 	asksNothing(t, n, 0)
 }

@@ -125,23 +125,34 @@ func TestCheck(t *testing.T) {
 		want(t, what, placement.Check(p), api.OK)
 	}
 	for what, change := range map[string]func(p *api.Placement){
-		"version 0":                    func(p *api.Placement) { p.Version = 0 },
-		"a negative version":           func(p *api.Placement) { p.Version = -1 },
-		"a great version":              func(p *api.Placement) { p.Version = api.MaxTime + 1 },
-		"no nodes":                     func(p *api.Placement) { p.Nodes = nil },
-		"two nodes":                    func(p *api.Placement) { p.Nodes = []int{1, 2}; p.Shards = p.Shards[:0] },
-		"two nodes, three owners":      func(p *api.Placement) { p.Nodes = []int{0, 1}; p.Shards = p.Shards[:1] },
-		"a node twice":                 func(p *api.Placement) { p.Nodes = []int{0, 1, 2, 3, 3} },
-		"nodes out of order":           func(p *api.Placement) { p.Nodes = []int{0, 2, 1, 3} },
-		"node 8":                       func(p *api.Placement) { p.Nodes = []int{0, 1, 2, 3, 8} },
-		"node -1":                      func(p *api.Placement) { p.Nodes = []int{-1, 0, 1, 2, 3} },
-		"no shards":                    func(p *api.Placement) { p.Shards = nil },
-		"nine shards":                  func(p *api.Placement) { p.Shards = slices.Repeat(p.Shards[:1], 9) },
-		"no owners":                    func(p *api.Placement) { p.Shards[0] = nil },
-		"two owners":                   func(p *api.Placement) { p.Shards[0] = avail(0, 1) },
-		"four owners":                  func(p *api.Placement) { p.Shards[0] = avail(0, 1, 2, 3) },
-		"owners out of order":          func(p *api.Placement) { p.Shards[0] = avail(0, 2, 1) },
-		"an owner twice":               func(p *api.Placement) { p.Shards[0] = avail(0, 1, 1) },
+		"version 0":                  func(p *api.Placement) { p.Version = 0 },
+		"a negative version":         func(p *api.Placement) { p.Version = -1 },
+		"a great version":            func(p *api.Placement) { p.Version = api.MaxTime + 1 },
+		"no nodes":                   func(p *api.Placement) { p.Nodes = nil },
+		"two nodes":                  func(p *api.Placement) { p.Nodes = []int{1, 2}; p.Shards = p.Shards[:0] },
+		"two nodes, three owners":    func(p *api.Placement) { p.Nodes = []int{0, 1}; p.Shards = p.Shards[:1] },
+		"a node twice":               func(p *api.Placement) { p.Nodes = []int{0, 1, 2, 3, 3} },
+		"nodes out of order":         func(p *api.Placement) { p.Nodes = []int{0, 2, 1, 3} },
+		"node 8":                     func(p *api.Placement) { p.Nodes = []int{0, 1, 2, 3, 8} },
+		"node -1":                    func(p *api.Placement) { p.Nodes = []int{-1, 0, 1, 2, 3} },
+		"no shards":                  func(p *api.Placement) { p.Shards = nil },
+		"nine shards":                func(p *api.Placement) { p.Shards = slices.Repeat(p.Shards[:1], 9) },
+		"no owners":                  func(p *api.Placement) { p.Shards[0] = nil },
+		"two owners":                 func(p *api.Placement) { p.Shards[0] = avail(0, 1) },
+		"four owners":                func(p *api.Placement) { p.Shards[0] = avail(0, 1, 2, 3) },
+		"owners out of order":        func(p *api.Placement) { p.Shards[0] = avail(0, 2, 1) },
+		"the first two out of order": func(p *api.Placement) { p.Shards[0] = avail(1, 0, 2) },
+		"an owner twice":             func(p *api.Placement) { p.Shards[0] = avail(0, 1, 1) },
+		"the first owner twice":      func(p *api.Placement) { p.Shards[0] = avail(0, 0, 1) },
+		"one from one that stays": func(p *api.Placement) {
+			p.Shards[0] = []api.Owner{avail(0)[0], avail(1)[0], {Node: 3, State: api.Initializing, From: 1}}
+		},
+		"one from nobody": func(p *api.Placement) {
+			p.Shards[0] = []api.Owner{avail(0)[0], avail(1)[0], {Node: 3, State: api.Initializing, From: 2}}
+		},
+		"nobody's source": func(p *api.Placement) {
+			p.Shards[0] = []api.Owner{avail(0)[0], avail(1)[0], {Node: 3, State: api.Initializing, From: -1}}
+		},
 		"an owner that is no node":     func(p *api.Placement) { p.Shards[0] = avail(0, 1, 4) },
 		"owner 8":                      func(p *api.Placement) { p.Shards[0] = avail(0, 1, 8) },
 		"owner -1":                     func(p *api.Placement) { p.Shards[0] = avail(-1, 0, 1) },

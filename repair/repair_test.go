@@ -150,9 +150,9 @@ func TestDescribe(t *testing.T) {
 	got, err = repair.Describe([]api.Series{of("a", pt(0, 1, 1), pt(api.MaxTime, 1, 1))}, api.MaxTime)
 	want(t, "the longest blocks", err, api.OK)
 	list(t, "the longest blocks", got, meta("a", 0, pt(0, 1, 1)), meta("a", api.MaxTime, pt(api.MaxTime, 1, 1)))
-	got, err = repair.Describe([]api.Series{of("a", pt(5, 1, 1), pt(6, 1, 1))}, 1)
+	got, err = repair.Describe([]api.Series{of("a", pt(0, 1, 1), pt(5, 1, 1), pt(6, 1, 1))}, 1)
 	want(t, "the shortest blocks", err, api.OK)
-	list(t, "the shortest blocks", got, meta("a", 5, pt(5, 1, 1)), meta("a", 6, pt(6, 1, 1)))
+	list(t, "the shortest blocks", got, meta("a", 0, pt(0, 1, 1)), meta("a", 5, pt(5, 1, 1)), meta("a", 6, pt(6, 1, 1)))
 }
 
 func TestDescribeErrors(t *testing.T) {

@@ -228,10 +228,12 @@ func TestEncodeErrors(t *testing.T) {
 	}
 	for _, kind := range []int{0, -1, 9, 256 + 1, math.MinInt, math.MaxInt} {
 		m := full(kind)
-		m.Seq, m.ID = -1, strings.Repeat("x", 99)
 		b, err := wire.Encode(m)
-		want(t, "kind", err, api.ErrArg)
+		want(t, fmt.Sprint("kind ", kind), err, api.ErrArg)
 		want(t, "bytes", len(b), 0)
+		m.Seq, m.ID = -1, strings.Repeat("x", 99)
+		_, err = wire.Encode(m)
+		want(t, fmt.Sprint("kind ", kind), err, api.ErrArg)
 	}
 }
 
